@@ -1,0 +1,1 @@
+"""Meetfolk: folk whose moods turn when two of them meet."""
