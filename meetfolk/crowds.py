@@ -1,6 +1,6 @@
 """Folk, crowds of them, and the crowds that come of their meetings."""
 
-from meetfolk.errors import BadCrowd, BadFolk, BadRow, BadRule, TooGreat
+from meetfolk.errors import BadCrowd, BadFolk, BadNumber, BadRow, BadRule, TooGreat
 
 MOST_MOODS = 6
 MOST_RULES = 12
@@ -70,6 +70,12 @@ def demand_crowd(folk, value):
     """Raise BadCrowd for a value that is no crowd of the folk."""
     if not is_crowd(folk, value):
         raise BadCrowd()
+
+
+def demand_number(value, most):
+    """Raise BadNumber for a value that is no integer from 0 to `most`."""
+    if not is_integer(value) or not 0 <= value <= most:
+        raise BadNumber()
 
 
 def demand_room(crowd):

@@ -21,6 +21,40 @@ RESTING = """
 [True, True, 'weights']
 """
 
+ENDING = """
+>>> from meetfolk.ending import end, ends, ends_paper, is_one_ended, judged_ends, leaps, parting
+>>> folk, many = ("ab", (("aa", "bb"),)), ("abc", (("ab", "cc"), ("aa", "bc")))
+>>> [ends(many, (2, 1, 0)), is_one_ended(many), parting(many), is_one_ended(folk), parting(folk)]
+[((1, 0, 2), (0, 2, 1)), False, (2, 1, 0), True, None]
+>>> [end(folk, (7, 1)), leaps(folk, (10 ** 30, 0)) == ((("aa", "bb"), 5 * 10 ** 29),), judged_ends(folk, ends_paper(folk))]
+[(1, 7), True, True]
+"""
+
+RAYS = """
+>>> from meetfolk.rays import on_ray, ray
+>>> folk = ("ab", (("aa", "bb"),))
+>>> [ray(folk, (0, 0), (1, 0)), on_ray(folk, (0, 0), (1, 0), 10 ** 20 + 1) == (1, 10 ** 20), ray(folk, (1, 0), (0, 3))]
+[(0, 2, (0, 2)), True, (0, 1, (0, 3))]
+"""
+
+ALIKE = """
+>>> from meetfolk.alike import are_parted, ends_alike, kept, keeps, unlike_crowd
+>>> folk, other = ("abc", (("aa", "bc"),)), ("abc", (("aa", "bb"),))
+>>> [ends_alike(folk, folk), ends_alike(folk, other), unlike_crowd(folk, other), kept(folk), kept(other)]
+[True, False, (2, 0, 0), ((1, 0, 2), (0, 1, -1)), ((1, 1, 0), (0, 0, 1))]
+>>> [keeps(folk, (1, 1, 1)), keeps(folk, (1, 0, 0)), are_parted(folk, (2, 0, 0), (0, 1, 1)), are_parted(folk, (2, 0, 0), (0, 2, 0))]
+[True, False, False, True]
+"""
+
+CHOOSING = """
+>>> from meetfolk.choosing import chances, count_rows, expected, least_crowd, least_other, longest, longest_row, shortest
+>>> folk, one = ("abc", (("ab", "cc"), ("aa", "bc"))), ("ab", (("aa", "bb"),))
+>>> [longest(folk, (3, 0, 0)), shortest(folk, (2, 1, 0)), longest_row(folk, (3, 0, 0)), count_rows(folk, (2, 1, 0))]
+[2, 1, (('aa', 'bc'), ('ab', 'cc')), 2]
+>>> [chances(folk, (2, 1, 0)), expected(folk, (3, 0, 0)), least_crowd(one, "b", 3), least_other(one, "b", 3)]
+[{(1, 0, 2): (2, 3), (0, 2, 1): (1, 3)}, (2, 1), (2, 1), (2, 1)]
+"""
+
 
 class TestExamples(unittest.TestCase):
     def run_examples(self, name, text):
@@ -35,6 +69,18 @@ class TestExamples(unittest.TestCase):
 
     def test_resting(self):
         self.run_examples("resting", RESTING)
+
+    def test_ending(self):
+        self.run_examples("ending", ENDING)
+
+    def test_rays(self):
+        self.run_examples("rays", RAYS)
+
+    def test_alike(self):
+        self.run_examples("alike", ALIKE)
+
+    def test_choosing(self):
+        self.run_examples("choosing", CHOOSING)
 
 
 if __name__ == "__main__":

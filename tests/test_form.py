@@ -25,6 +25,12 @@ LIBRARY = {
 WHERE = {
     "crowds": ("is_folk", "is_at_rest", "meetings", "met", "met_all"),
     "resting": ("always_rests", "judged_rest", "weights", "round_of", "rest_paper"),
+    "ending": ("ends", "is_one_ended", "parting", "ends_paper", "judged_ends", "leaps", "end"),
+    "rays": ("ray", "on_ray"),
+    "alike": ("ends_alike", "unlike_crowd", "keeps", "kept", "are_parted"),
+    "choosing": (
+        "longest", "shortest", "longest_row", "count_rows", "chances", "expected", "least_crowd", "least_other",
+    ),
 }
 
 

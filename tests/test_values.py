@@ -4,8 +4,14 @@ import copy
 import itertools
 import unittest
 
+from meetfolk.alike import are_parted, ends_alike, keeps, kept, unlike_crowd
+from meetfolk.choosing import (
+    chances, count_rows, expected, least_crowd, least_other, longest, longest_row, shortest,
+)
 from meetfolk.crowds import is_at_rest, is_folk, meetings, met, met_all
-from meetfolk.errors import BadCrowd, BadFolk, BadRow, BadRule
+from meetfolk.ending import end, ends, ends_paper, is_one_ended, judged_ends, leaps, parting
+from meetfolk.errors import BadCrowd, BadFolk, BadNumber, BadRow, BadRule, BadSum, NoMood
+from meetfolk.rays import on_ray, ray
 from meetfolk.resting import always_rests, judged_rest, rest_paper, round_of, weights
 from tests.values import all_rules, nested, odd_values, shown
 
@@ -13,6 +19,8 @@ FOLK = ("abc", (("ab", "cc"), ("aa", "bc")))
 CROWD = (2, 1, 0)
 RULE = ("ab", "cc")
 PAPER = ("weights", (3, 1, 0))
+ONE = ("abc", (("ab", "cc"),))
+TWO = ("two", (2, 1, 0), (("ab", "cc"),), (("aa", "bc"),))
 TOP = 10 ** 40
 
 # Each function with good arguments, and the error that a wrong one in each place raises.
@@ -26,7 +34,39 @@ CALLS = (
     (round_of, (FOLK,), (BadFolk,)),
     (rest_paper, (FOLK,), (BadFolk,)),
     (judged_rest, (FOLK, PAPER), (BadFolk,)),
+    (ends, (FOLK, CROWD), (BadFolk, BadCrowd)),
+    (is_one_ended, (FOLK,), (BadFolk,)),
+    (parting, (FOLK,), (BadFolk,)),
+    (ends_paper, (FOLK,), (BadFolk,)),
+    (judged_ends, (FOLK, TWO), (BadFolk,)),
+    (leaps, (ONE, CROWD), (BadFolk, BadCrowd)),
+    (end, (ONE, CROWD), (BadFolk, BadCrowd)),
+    (ray, (ONE, CROWD, CROWD), (BadFolk, BadCrowd, BadCrowd)),
+    (on_ray, (ONE, CROWD, CROWD, 3), (BadFolk, BadCrowd, BadCrowd, BadNumber)),
+    (ends_alike, (ONE, ONE), (BadFolk, BadFolk)),
+    (unlike_crowd, (ONE, ONE), (BadFolk, BadFolk)),
+    (keeps, (FOLK, (1, 1, 1)), (BadFolk, BadSum)),
+    (kept, (FOLK,), (BadFolk,)),
+    (are_parted, (FOLK, CROWD, CROWD), (BadFolk, BadCrowd, BadCrowd)),
+    (longest, (FOLK, CROWD), (BadFolk, BadCrowd)),
+    (shortest, (FOLK, CROWD), (BadFolk, BadCrowd)),
+    (longest_row, (FOLK, CROWD), (BadFolk, BadCrowd)),
+    (count_rows, (FOLK, CROWD), (BadFolk, BadCrowd)),
+    (chances, (FOLK, CROWD), (BadFolk, BadCrowd)),
+    (expected, (FOLK, CROWD), (BadFolk, BadCrowd)),
+    (least_crowd, (ONE, "a", 3), (BadFolk, NoMood, BadNumber)),
+    (least_other, (ONE, "a", 3), (BadFolk, NoMood, BadNumber)),
 )
+
+
+def wrong_values(error):
+    """The odd values that are wrong for a parameter for which this error is raised."""
+    if error is NoMood:
+        return [value for value in odd_values() if value != "a"]
+    if error is BadNumber:
+        return [value for value in odd_values() if type(value) is not int or not 0 <= value <= 10 ** 30]
+    return odd_values()
+
 
 NO_MOODS = (
     "", "abcdefg", "ba", "aa", "aab", "abb", "acb", "abA", "A", "a b", "a1", "1", "\u00e4", "a\u00e4", "\u0430",
@@ -106,10 +146,12 @@ class TestCrowds(unittest.TestCase):
             (1, 1, {}), {0: 1, 1: 1, 2: 1}, "111", (1, 1, nested(dict, 29)), (10 ** 5000, 0, 0),
         ]
         for crowd in near + odd_values():
-            for function, good, _ in CALLS[:4]:
-                with self.subTest(function=function.__name__, crowd=shown(crowd)):
-                    with self.assertRaises(BadCrowd):
-                        function(FOLK, crowd, *good[2:])
+            for function, good, told in CALLS:
+                for at in range(len(told)):
+                    if told[at] is BadCrowd:
+                        with self.subTest(function=function.__name__, at=at, crowd=shown(crowd)):
+                            with self.assertRaises(BadCrowd):
+                                function(*good[:at], crowd, *good[at + 1:])
 
     def test_the_length_is_that_of_these_folk(self):
         for many in range(1, 7):
@@ -126,7 +168,7 @@ class TestAnyValue(unittest.TestCase):
     def test_each_parameter(self):
         for function, good, told in CALLS:
             for at, error in enumerate(told):
-                for value in odd_values():
+                for value in wrong_values(error):
                     with self.subTest(function=function.__name__, at=at, value=shown(value)):
                         with self.assertRaises(error):
                             function(*good[:at], value, *good[at + 1:])
@@ -144,7 +186,7 @@ class TestAnyValue(unittest.TestCase):
             for wrong in itertools.product((False, True), repeat=len(told)):
                 if not any(wrong):
                     continue
-                for value in (None, 3, [], nested(tuple, 30)):
+                for value in (None, -3, [], nested(tuple, 30)):
                     passed = [value if at < len(told) and wrong[at] else kept for at, kept in enumerate(good)]
                     with self.subTest(function=function.__name__, wrong=wrong, value=shown(value)):
                         with self.assertRaises(told[wrong.index(True)]):
@@ -152,11 +194,15 @@ class TestAnyValue(unittest.TestCase):
 
     def test_bad_folk_ahead_of_a_wrong_paper(self):
         for paper in odd_values():
-            with self.assertRaises(BadFolk):
-                judged_rest(["abc", ()], paper)
+            for function in (judged_rest, judged_ends):
+                with self.assertRaises(BadFolk):
+                    function(["abc", ()], paper)
 
     def test_nothing_handed_in_is_changed(self):
-        values = odd_values() + [FOLK, CROWD, RULE, (RULE,), PAPER, ("weights", [3, 1, 0]), ("round", [1, 1, 0], [RULE])]
+        values = odd_values() + [
+            FOLK, CROWD, RULE, (RULE,), PAPER, ("weights", [3, 1, 0]), ("round", [1, 1, 0], [RULE]), ONE, TWO,
+            ends_paper(ONE), ("one", {(2, 0, 0): [2, 0, 0]}), ["two", [2, 0, 0], [RULE], [RULE]],
+        ]
         kept = copy.deepcopy(values)
         for function, good, _ in CALLS + ((is_folk, (FOLK,), ()),):
             for at in range(len(good)):
@@ -170,9 +216,17 @@ class TestAnyValue(unittest.TestCase):
 
     def test_equal_calls_have_equal_answers(self):
         ring = ("abc", (("ab", "cc"), ("cc", "ab")))
-        for function, good, _ in CALLS[:6] + CALLS[7:] + ((round_of, (ring,), ()), (rest_paper, (ring,), ())):
+        others = ((round_of, (ring,), ()), (rest_paper, (ring,), ()), (ends_paper, (ONE,), ()))
+        for function, good, _ in tuple(call for call in CALLS if call[0] is not round_of) + others:
             with self.subTest(function.__name__):
                 self.assertEqual(function(*good), function(*copy.deepcopy(good)))
+
+    def test_answers_that_are_changed_change_no_later_ones(self):
+        for function, good in ((chances, (FOLK, CROWD)), (lambda folk: ends_paper(folk)[1], (ONE,))):
+            first = function(*good)
+            told = dict(first)
+            first.clear()
+            self.assertEqual(function(*good), told)
 
 
 if __name__ == "__main__":
