@@ -1,8 +1,7 @@
 """What somebody who chooses the meetings can come to, what a fair lot comes to, and the least crowds to begin with."""
 
-from meetfolk.crowds import demand_number
+from meetfolk.crowds import demand_mood, demand_number
 from meetfolk.ending import course_of, demand_one_end
-from meetfolk.errors import NoMood
 from meetfolk.resting import weights
 from meetfolk.shares import added, portion
 from meetfolk.ways import crowd_order, crowds_of, end_of_each, steps_of
@@ -59,12 +58,6 @@ def visits(folk, crowd, course):
         for behind, top, bottom in lot(folk[0], here, course[here]):
             shares[behind] = added(shares[behind], portion(shares[here], top, bottom))
     return shares
-
-
-def demand_mood(folk, value):
-    """Raise NoMood for a value that is no mood of the folk."""
-    if not isinstance(value, str) or len(value) != 1 or value not in folk[0]:
-        raise NoMood()
 
 
 def demand_wish(folk, mood, many):

@@ -1,6 +1,6 @@
 """Folk, crowds of them, and the crowds that come of their meetings."""
 
-from meetfolk.errors import BadCrowd, BadFolk, BadNumber, BadRow, BadRule, TooGreat
+from meetfolk.errors import BadCrowd, BadFolk, BadNumber, BadRow, BadRule, NoMood, TooGreat
 
 MOST_MOODS = 6
 MOST_RULES = 12
@@ -24,6 +24,11 @@ def are_moods(value):
     if not all("a" <= mood <= "z" for mood in value):
         return False
     return all(value[at] < value[at + 1] for at in range(len(value) - 1))
+
+
+def is_mood(moods, value):
+    """Tell whether the value is one of the moods."""
+    return isinstance(value, str) and len(value) == 1 and value in moods
 
 
 def are_two(moods, value):
@@ -70,6 +75,12 @@ def demand_crowd(folk, value):
     """Raise BadCrowd for a value that is no crowd of the folk."""
     if not is_crowd(folk, value):
         raise BadCrowd()
+
+
+def demand_mood(folk, value):
+    """Raise NoMood for a value that is no mood of the folk."""
+    if not is_mood(folk[0], value):
+        raise NoMood()
 
 
 def demand_number(value, most):

@@ -55,6 +55,35 @@ CHOOSING = """
 [{(1, 0, 2): (2, 3), (0, 2, 1): (1, 3)}, (2, 1), (2, 1), (2, 1)]
 """
 
+READING = """
+>>> from meetfolk.reading import printed
+>>> printed("moods ab;rule aa>bb;crowd X=1 b,7 a;join Y=X+X;ask end Y;ask rests;")
+'moods ab;\\nrule aa > bb;\\ncrowd X = 7 a, 1 b;\\njoin Y = X + X;\\nask end Y;\\nask rests;'
+"""
+
+RUNNING = """
+>>> from meetfolk.running import run
+>>> run("moods ab; ask rests; rule aa > bb; crowd X = 7 a, 1 b; join Y = X + X; ask end Y; ask one; ask ends X; ask longest X; ask rest X;")
+(True, (0, 16), True, ((1, 7),), 3, False)
+"""
+
+DESKS = """
+>>> from meetfolk.desks import Desk, desk_of
+>>> desk = Desk(("ab", (("aa", "bb"),)), (2, 0))
+>>> done = [desk.meet(("aa", "bb")), desk.join((1, 1)), desk.leave("b")]
+>>> [desk.crowd(), desk.row(), desk.is_at_rest(), desk.text(), desk_of(desk.text()).crowd()]
+[(1, 2), (('meet', ('aa', 'bb')), ('join', (1, 1)), ('leave', 'b')), True, 'moods ab\\nrules aa>bb\\ncrowd 1 2\\n', (1, 2)]
+"""
+
+SHAPES = """
+>>> from meetfolk.shapes import is_of_shape, likenesses, lumped, lumped_crowd, lumps, rest_shapes
+>>> folk = ("abc", (("ab", "cc"), ("aa", "cc"), ("bb", "cc")))
+>>> [rest_shapes(folk), is_of_shape(folk, (1, 0, 9), "1.*"), likenesses(folk), lumps(folk)]
+[('.1*', '1.*'), True, ('abc', 'bac'), ('aaa', 'aac', 'abc')]
+>>> [lumped(folk, "aac"), lumped_crowd(folk, "aac", (2, 3, 4))]
+[('ac', (('aa', 'cc'),)), (5, 4)]
+"""
+
 
 class TestExamples(unittest.TestCase):
     def run_examples(self, name, text):
@@ -81,6 +110,18 @@ class TestExamples(unittest.TestCase):
 
     def test_choosing(self):
         self.run_examples("choosing", CHOOSING)
+
+    def test_reading(self):
+        self.run_examples("reading", READING)
+
+    def test_running(self):
+        self.run_examples("running", RUNNING)
+
+    def test_desks(self):
+        self.run_examples("desks", DESKS)
+
+    def test_shapes(self):
+        self.run_examples("shapes", SHAPES)
 
 
 if __name__ == "__main__":

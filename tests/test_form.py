@@ -31,7 +31,18 @@ WHERE = {
     "choosing": (
         "longest", "shortest", "longest_row", "count_rows", "chances", "expected", "least_crowd", "least_other",
     ),
+    "reading": ("check", "printed"),
+    "running": ("run",),
+    "desks": ("Desk", "desk_of"),
+    "shapes": ("is_of_shape", "rest_shapes", "likenesses", "lumps", "lumped", "lumped_crowd"),
 }
+DESK = ("meet", "join", "leave", "undo", "crowd", "row", "is_at_rest", "text")
+# The methods of values that may be called; a class of the package may define others.
+METHODS = (
+    "append clear copy count endswith extend find get index insert isalnum isalpha isdigit islower isspace isupper items "
+    "join keys ljust lower lstrip partition pop remove replace reverse rfind rjust rpartition rsplit rstrip setdefault "
+    "split splitlines startswith strip update upper values zfill bit_length"
+).split()
 
 
 def files():
@@ -100,9 +111,32 @@ class TestForm(unittest.TestCase):
     def test_the_interface_is_defined_where_it_is_listed(self):
         for module, told in WHERE.items():
             text = dict(files())[f"{module}.py"]
-            made = [node.name for node in ast.parse(text).body if isinstance(node, ast.FunctionDef)]
+            made = [node.name for node in ast.parse(text).body if isinstance(node, (ast.FunctionDef, ast.ClassDef))]
             for name in told:
                 self.assertIn(name, made)
+
+    def test_the_methods_of_the_desk_are_its_own(self):
+        desk = [node for _, node in nodes(ast.ClassDef) if node.name == "Desk"][0]
+        made = [node.name for node in desk.body if isinstance(node, ast.FunctionDef)]
+        for name in DESK:
+            self.assertIn(name, made)
+
+    def test_methods_that_are_called(self):
+        own = [node.name for _, node in nodes(ast.FunctionDef)]
+        for name, node in nodes(ast.Call):
+            if isinstance(node.func, ast.Attribute):
+                self.assertIn(node.func.attr, METHODS + own, f"{name} line {node.lineno}")
+
+    def test_no_two_files_import_from_each_other(self):
+        behind = {name[:-3]: [] for name, _ in files()}
+        for name, node in nodes(ast.ImportFrom):
+            if node.module.startswith("meetfolk."):
+                behind[name[:-3]].append(node.module.split(".")[1])
+        while behind:
+            free = [name for name in behind if not any(other in behind for other in behind[name])]
+            self.assertTrue(free, behind)
+            for name in free:
+                del behind[name]
 
 
 if __name__ == "__main__":

@@ -9,10 +9,16 @@ from meetfolk.choosing import (
     chances, count_rows, expected, least_crowd, least_other, longest, longest_row, shortest,
 )
 from meetfolk.crowds import is_at_rest, is_folk, meetings, met, met_all
+from meetfolk.desks import Desk, desk_of
 from meetfolk.ending import end, ends, ends_paper, is_one_ended, judged_ends, leaps, parting
-from meetfolk.errors import BadCrowd, BadFolk, BadNumber, BadRow, BadRule, BadSum, NoMood
+from meetfolk.errors import (
+    BadClasses, BadCrowd, BadFolk, BadNumber, BadRow, BadRule, BadShape, BadSum, NoMood, NotText,
+)
 from meetfolk.rays import on_ray, ray
+from meetfolk.reading import check, printed
 from meetfolk.resting import always_rests, judged_rest, rest_paper, round_of, weights
+from meetfolk.running import run
+from meetfolk.shapes import is_of_shape, likenesses, lumped, lumped_crowd, lumps, rest_shapes
 from tests.values import all_rules, nested, odd_values, shown
 
 FOLK = ("abc", (("ab", "cc"), ("aa", "bc")))
@@ -22,6 +28,40 @@ PAPER = ("weights", (3, 1, 0))
 ONE = ("abc", (("ab", "cc"),))
 TWO = ("two", (2, 1, 0), (("ab", "cc"),), (("aa", "bc"),))
 TOP = 10 ** 40
+TEXT = "moods ab;rule aa>bb;crowd X=3 a;ask end X;"
+
+
+def at_desk(folk, crowd):
+    """What a new desk tells."""
+    desk = Desk(folk, crowd)
+    return desk.crowd(), desk.row(), desk.is_at_rest(), desk.text()
+
+
+def met_at_desk(folk, crowd, rule):
+    """The crowd behind a meeting at a desk."""
+    desk = Desk(folk, crowd)
+    desk.meet(rule)
+    return desk.crowd()
+
+
+def joined_at_desk(folk, crowd, other):
+    """The crowd behind a join at a desk."""
+    desk = Desk(folk, crowd)
+    desk.join(other)
+    return desk.crowd()
+
+
+def left_at_desk(folk, crowd, mood):
+    """The crowd at a desk that one in the mood has left."""
+    desk = Desk(folk, crowd)
+    desk.leave(mood)
+    return desk.crowd()
+
+
+def desk_again(text):
+    """The text of the desk of a text."""
+    return desk_of(text).text()
+
 
 # Each function with good arguments, and the error that a wrong one in each place raises.
 CALLS = (
@@ -56,6 +96,20 @@ CALLS = (
     (expected, (FOLK, CROWD), (BadFolk, BadCrowd)),
     (least_crowd, (ONE, "a", 3), (BadFolk, NoMood, BadNumber)),
     (least_other, (ONE, "a", 3), (BadFolk, NoMood, BadNumber)),
+    (check, (TEXT,), (NotText,)),
+    (printed, (TEXT,), (NotText,)),
+    (run, (TEXT,), (NotText,)),
+    (at_desk, (FOLK, CROWD), (BadFolk, BadCrowd)),
+    (met_at_desk, (FOLK, CROWD, RULE), (BadFolk, BadCrowd, BadRule)),
+    (joined_at_desk, (FOLK, CROWD, CROWD), (BadFolk, BadCrowd, BadCrowd)),
+    (left_at_desk, (FOLK, CROWD, "a"), (BadFolk, BadCrowd, NoMood)),
+    (desk_again, ("moods ab\nrules aa>bb\ncrowd 3 0\n",), (NotText,)),
+    (is_of_shape, (FOLK, CROWD, "1*."), (BadFolk, BadCrowd, BadShape)),
+    (rest_shapes, (FOLK,), (BadFolk,)),
+    (likenesses, (FOLK,), (BadFolk,)),
+    (lumps, (FOLK,), (BadFolk,)),
+    (lumped, (FOLK, "aaa"), (BadFolk, BadClasses)),
+    (lumped_crowd, (FOLK, "abc", CROWD), (BadFolk, BadClasses, BadCrowd)),
 )
 
 
@@ -63,6 +117,10 @@ def wrong_values(error):
     """The odd values that are wrong for a parameter for which this error is raised."""
     if error is NoMood:
         return [value for value in odd_values() if value != "a"]
+    if error is BadClasses:
+        return [value for value in odd_values() if value != "abc"]
+    if error is NotText:
+        return [value for value in odd_values() if not isinstance(value, str)]
     if error is BadNumber:
         return [value for value in odd_values() if type(value) is not int or not 0 <= value <= 10 ** 30]
     return odd_values()
@@ -175,8 +233,8 @@ class TestAnyValue(unittest.TestCase):
 
     def test_folk_that_are_nearly_folk(self):
         near = [(moods, ()) for moods in NO_MOODS] + [("abc", (rule,)) for rule in NO_RULES]
-        for function, good, _ in CALLS:
-            for folk in near:
+        for function, good, told in CALLS:
+            for folk in near if told[0] is BadFolk else []:
                 with self.subTest(function=function.__name__, folk=shown(folk)):
                     with self.assertRaises(BadFolk):
                         function(folk, *good[1:])
